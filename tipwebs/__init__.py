@@ -1,0 +1,1 @@
+"""Tipwebs: webs in which two are tied just if their weights together come to a bound."""
