@@ -4,7 +4,10 @@ import copy
 import decimal
 import fractions
 import itertools
+import random
 import unittest
+
+from tipwebs.errors import TipError
 
 
 class Unwritable:
@@ -53,6 +56,89 @@ def each_web(places):
     pairs = all_ties(places)
     for chosen in itertools.product([False, True], repeat=len(pairs)):
         yield list(itertools.compress(pairs, chosen))
+
+
+def tied(ties, one, other):
+    return (min(one, other), max(one, other)) in ties
+
+
+def bars(four, ties):
+    """Whether four unlike places bar weights, by point 2's own words."""
+    first, second, third, fourth = four
+    both_tied = tied(ties, first, second) and tied(ties, third, fourth)
+    return both_tied and not tied(ties, first, third) and not tied(ties, second, fourth)
+
+
+def each_tipweb(places):
+    """The ties of each web of so many places in which no four bar weights."""
+    for ties in each_web(places):
+        if not any(bars(four, ties) for four in itertools.permutations(range(places), 4)):
+            yield ties
+
+
+def each_barred_web(places):
+    """The ties of each web of so many places in which some four bar weights."""
+    for ties in each_web(places):
+        if any(bars(four, ties) for four in itertools.permutations(range(places), 4)):
+            yield ties
+
+
+def is_nested(places, ties):
+    """Whether of any two places one is tied to all the other one is tied to, the two left aside: no four bar."""
+    near = [{other for other in range(places) if tied(ties, place, other)} for place in range(places)]
+    return all(near[one] - {other} <= near[other] or near[other] - {one} <= near[one]
+               for one, other in all_ties(places))
+
+
+def by_weights(weights, bound):
+    """The ties, in order, of the web of these weights and this bound."""
+    return [(low, high) for low, high in all_ties(len(weights)) if weights[low] + weights[high] >= bound]
+
+
+def renumbered(ties, names):
+    """The ties, in order, when each place gets its name for its number."""
+    return sorted((min(names[low], names[high]), max(names[low], names[high])) for low, high in ties)
+
+
+def counts_by(places, ties):
+    return [sum(place in tie for tie in ties) for place in range(places)]
+
+
+def each_row(places):
+    """Each row of so many places."""
+    for order in itertools.permutations(range(places)):
+        for truths in itertools.product([False, True], repeat=places - 1):
+            yield list(zip(order, (False,) + truths))
+
+
+def by_words(row):
+    """The ties of a row by point 3's own words: of two places, the truth of the one behind says whether they are."""
+    step = {place: at for at, (place, truth) in enumerate(row)}
+    return [(low, high) for low, high in all_ties(len(row)) if row[max(step[low], step[high])][1]]
+
+
+def mixed(listed, seed=1):
+    """A copy of the list in another turn, always the same one."""
+    copied = list(listed)
+    random.Random(seed).shuffle(copied)
+    return copied
+
+
+def big_tipwebs():
+    """The ties of tipwebs of forty places: none, all, and some by weights."""
+    webs = [[], all_ties(40)]
+    for bound in [1, 20, 37, 40, 55, 60, 78]:
+        webs.append(by_weights(mixed(range(40), bound), bound))
+        webs.append(by_weights([place * place * 7 // 5 + bound & 63 for place in range(40)], bound))
+    return webs
+
+
+class RefusedCase(unittest.TestCase):
+    def refused(self, kind, call, *handed):
+        """The call refuses what is handed in by this very class."""
+        with self.assertRaises(TipError) as caught:
+            call(*handed)
+        self.assertIs(type(caught.exception), kind)
 
 
 class ShowsCase(unittest.TestCase):

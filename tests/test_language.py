@@ -78,6 +78,19 @@ class LanguageTest(unittest.TestCase):
                                        for name in line.targets}
             self.assertLessEqual({alias.name for alias in node.names}, bound, where)
 
+    def test_no_two_files_import_from_each_other(self):
+        needs = {path.stem: {node.module.split(".")[1] for node in ast.walk(tree) if isinstance(node, ast.ImportFrom)}
+                 for path, tree in self.trees.items()}
+        while needs:
+            free = [name for name in needs if not needs[name] & set(needs)]
+            self.assertTrue(free, needs)
+            needs = {name: needs[name] for name in needs if name not in free}
+
+    def test_powers_have_literal_exponents(self):
+        for where, node in self.nodes(ast.BinOp):
+            if isinstance(node.op, ast.Pow):
+                self.assertIsInstance(node.right, ast.Constant, where)
+
     def test_module_level_holds_definitions_only(self):
         for path, tree in self.trees.items():
             self.assertTrue(ast.get_docstring(tree), path)

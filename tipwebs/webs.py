@@ -64,3 +64,12 @@ def tied_both_ways(ties):
         tied[(low, high)] = True
         tied[(high, low)] = True
     return tied
+
+
+def counts_of(places, ties):
+    """Tell for each place how many ties it has."""
+    counts = [0] * places
+    for low, high in ties:
+        counts[low] += 1
+        counts[high] += 1
+    return counts
